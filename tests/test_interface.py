@@ -1,0 +1,104 @@
+"""The interface: every name stands in its file, with its arguments and its kind."""
+
+import inspect
+from importlib import import_module
+
+from tests.checks import Checks
+
+FUNCTIONS = {
+    "region.census": {
+        "census_of": ["region", "heads", "placing"],
+        "heads_in": ["census", "villages"],
+        "running_lines": ["region", "census"],
+        "require_world": ["region", "heads", "placing"],
+    },
+    "region.moves": {
+        "fault_of_move": ["region", "heads", "placing", "move"],
+        "moved": ["region", "heads", "placing", "move"],
+        "moves_from": ["region", "heads", "placing"],
+    },
+    "region.walks": {
+        "walk": ["region", "heads", "placing", "moves"],
+        "trail": ["region", "heads", "placing", "moves"],
+        "way_back": ["placing", "moves"],
+    },
+    "region.notation": {
+        "write_region": ["region"],
+        "write_moves": ["moves"],
+        "read_region": ["text"],
+        "read_moves": ["text"],
+    },
+    "lots.divisions": {
+        "tidy": ["villages", "blocks"],
+        "singles": ["villages"],
+        "place_of": ["division", "village"],
+        "touched_by": ["division", "stops"],
+        "join_blocks": ["division", "places"],
+        "divisions_of": ["villages"],
+    },
+    "lots.closing": {
+        "lots_of": ["region", "census"],
+        "joins_of": ["region", "census"],
+        "lot_of": ["region", "census", "village"],
+    },
+}
+
+GENERATORS = ["moves_from", "trail", "divisions_of"]
+
+METHODS = {
+    ("region.book", "Region"): {
+        "__init__": ["self", "villages", "lines"],
+        "with_line": ["self", "stops", "number"],
+        "without": ["self", "index"],
+        "__len__": ["self"],
+        "__iter__": ["self"],
+        "__contains__": ["self", "line"],
+        "__add__": ["self", "other"],
+        "__eq__": ["self", "other"],
+    },
+    ("needs.need", "Need"): {
+        "__init__": ["self", "kinds", "rows"],
+        "implies": ["self", "other"],
+        "__call__": ["self", "crowd"],
+        "__and__": ["self", "other"],
+        "__or__": ["self", "other"],
+        "__eq__": ["self", "other"],
+    },
+}
+
+
+def module(name):
+    return import_module(f"villagelines.{name}")
+
+
+def arguments(function):
+    return list(inspect.signature(function).parameters)
+
+
+class TestInterface(Checks):
+
+    def test_functions_are_defined_in_their_files(self):
+        for place, functions in FUNCTIONS.items():
+            for name, wanted in functions.items():
+                with self.subTest(place=place, name=name):
+                    function = vars(module(place))[name]
+                    self.assertEqual(function.__module__, f"villagelines.{place}")
+                    self.assertEqual(arguments(function), wanted)
+                    self.assertEqual(inspect.isgeneratorfunction(function), name in GENERATORS)
+
+    def test_methods_are_defined_in_the_class_itself(self):
+        for (place, name), methods in METHODS.items():
+            own = vars(module(place))[name]
+            self.assertEqual(own.__module__, f"villagelines.{place}")
+            for method, wanted in methods.items():
+                with self.subTest(name=name, method=method):
+                    self.assertEqual(arguments(vars(own)[method]), wanted)
+
+    def test_makers_and_property_are_of_their_kind(self):
+        region = module("region.book").Region
+        self.assertIsInstance(vars(region)["bare"], classmethod)
+        self.assertEqual(arguments(region.bare), ["villages"])
+        self.assertIsInstance(vars(region)["greatest"], property)
+        need = module("needs.need").Need
+        self.assertIsInstance(vars(need)["of"], staticmethod)
+        self.assertEqual(arguments(need.of), ["kinds", "kind", "number"])

@@ -1,0 +1,1 @@
+"""Bus lines that run only while enough people live at their stops."""

@@ -1,0 +1,1 @@
+"""Divisions of the villages, and the lots of a census."""

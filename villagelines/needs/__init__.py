@@ -1,0 +1,1 @@
+"""Needs of several kinds of people."""

@@ -1,0 +1,1 @@
+"""Regions, their censuses, moves and walks, and their texts."""

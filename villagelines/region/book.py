@@ -1,0 +1,77 @@
+"""Regions: a number of villages and the lines between them."""
+
+from villagelines.errors import BadRegion
+
+
+def _is_ascending(stops):
+    """True if each stop is greater than the stop before it."""
+    return all([before < after for before, after in zip(stops, stops[1:])])
+
+
+def _fault_of_line(villages, stops, number):
+    """What is wrong with a line among so many villages, or None."""
+    if len(stops) < 2:
+        return "stops"
+    if not all([0 <= stop < villages for stop in stops]):
+        return "range"
+    if not _is_ascending(stops):
+        return "order"
+    if number < 1:
+        return "number"
+    return None
+
+
+def _require_region(villages, lines):
+    """None, or the error that tells the first fault of a region."""
+    if villages < 1:
+        raise BadRegion(-1, "villages")
+    for at, (stops, number) in enumerate(lines):
+        why = _fault_of_line(villages, stops, number)
+        if why is not None:
+            raise BadRegion(at, why)
+
+
+class Region:
+    """A number of villages and a row of lines `(stops, number)`."""
+
+    def __init__(self, villages, lines):
+        _require_region(villages, lines)
+        self.villages = villages
+        self.lines = tuple(lines)
+
+    @classmethod
+    def bare(cls, villages):
+        """The region without lines."""
+        return cls(villages, [])
+
+    @property
+    def greatest(self):
+        """The greatest number of a line, 0 without lines."""
+        return max([line[1] for line in self.lines], default=0)
+
+    def with_line(self, stops, number):
+        """The region with one more line behind the others."""
+        return Region(self.villages, [*self.lines, (stops, number)])
+
+    def without(self, index):
+        """The region without the line of this index."""
+        if not 0 <= index < len(self.lines):
+            raise BadRegion(index, "index")
+        return Region(self.villages, [*self.lines[:index], *self.lines[index + 1:]])
+
+    def __len__(self):
+        return len(self.lines)
+
+    def __iter__(self):
+        return iter(self.lines)
+
+    def __contains__(self, line):
+        return line in self.lines
+
+    def __add__(self, other):
+        if self.villages != other.villages:
+            raise BadRegion(-1, "villages")
+        return Region(self.villages, [*self.lines, *other.lines])
+
+    def __eq__(self, other):
+        return isinstance(other, Region) and self.villages == other.villages and self.lines == other.lines
