@@ -41,9 +41,42 @@ FUNCTIONS = {
         "joins_of": ["region", "census"],
         "lot_of": ["region", "census", "village"],
     },
+    "lots.order": {
+        "is_finer": ["one", "other"],
+        "meet_of": ["one", "other"],
+        "merge_of": ["one", "other"],
+    },
+    "lots.shut": {
+        "leak_of": ["region", "census", "division"],
+        "is_shut": ["region", "census", "division"],
+        "is_shut_for_all": ["region", "census", "division", "villages"],
+        "shut_divisions": ["region", "census"],
+    },
+    "lots.judge": {
+        "fault_of_joins": ["region", "census", "row"],
+    },
+    "lots.settling": {
+        "settled_placing": ["region", "heads", "placing"],
+        "same_class": ["region", "heads", "one", "other"],
+    },
+    "lots.board": {
+        "board_of": ["region", "heads", "placing"],
+    },
+    "ways.judge": {
+        "fault_of_paper": ["region", "heads", "start", "goal", "paper"],
+    },
+    "needs.notation": {
+        "write_need": ["need", "words"],
+        "read_need": ["text", "words"],
+    },
+    "years.notation": {
+        "read_note": ["text"],
+    },
 }
 
-GENERATORS = ["moves_from", "trail", "divisions_of"]
+GENERATORS = ["moves_from", "trail", "divisions_of", "shut_divisions"]
+
+WORDS = {"words": ["self"]}
 
 METHODS = {
     ("region.book", "Region"): {
@@ -64,6 +97,35 @@ METHODS = {
         "__or__": ["self", "other"],
         "__eq__": ["self", "other"],
     },
+    ("years.notes", "Note"): {
+        "__init__": ["self", "moment"],
+        "words": ["self"],
+        "text": ["self"],
+        "__eq__": ["self", "other"],
+    },
+    ("years.notes", "Come"): WORDS,
+    ("years.notes", "Leave"): WORDS,
+    ("years.notes", "Seen"): WORDS,
+    ("years.notes", "Opened"): WORDS,
+    ("years.notes", "Closed"): WORDS,
+    ("years.notes", "Ran"): WORDS,
+    ("years.notes", "Stood"): WORDS,
+    ("years.notes", "Counted"): WORDS,
+}
+
+NOTES = {
+    "Note": ["moment"],
+    "FamilyNote": ["moment", "name"],
+    "VillageNote": ["moment", "village"],
+    "LineNote": ["moment", "line"],
+    "Come": ["moment", "name", "heads", "village"],
+    "Leave": ["moment", "name", "village"],
+    "Seen": ["moment", "name", "village"],
+    "Opened": ["moment", "line", "number", "stops"],
+    "Closed": ["moment", "line"],
+    "Ran": ["moment", "line"],
+    "Stood": ["moment", "line"],
+    "Counted": ["moment", "heads", "village"],
 }
 
 
@@ -102,3 +164,10 @@ class TestInterface(Checks):
         need = module("needs.need").Need
         self.assertIsInstance(vars(need)["of"], staticmethod)
         self.assertEqual(arguments(need.of), ["kinds", "kind", "number"])
+
+    def test_notes_are_defined_in_their_file_with_their_arguments(self):
+        for name, wanted in NOTES.items():
+            with self.subTest(name=name):
+                own = vars(module("years.notes"))[name]
+                self.assertEqual(own.__module__, "villagelines.years.notes")
+                self.assertEqual(arguments(own), wanted)

@@ -1,33 +1,24 @@
 """The lots of a census: blocks joined by lines until no line can join."""
 
 from villagelines.lots.divisions import join_blocks, place_of, singles, touched_by
-from villagelines.region.census import heads_in
+from villagelines.lots.shut import leak_of
 
 
-def _can_join(line, census, division):
-    """True if the line touches several blocks that have enough heads for it."""
-    stops, number = line
-    places = touched_by(division, stops)
-    return len(places) > 1 and sum([heads_in(census, division[place]) for place in places]) >= number
-
-
-def first_join(region, census, division):
-    """The index of the first line that can join blocks of the division, or None."""
-    for at, line in enumerate(region.lines):
-        if _can_join(line, census, division):
-            return at
-    return None
+def joined_by(region, division, line):
+    """The division in which all blocks that the line touches are one block."""
+    return join_blocks(division, touched_by(division, region.lines[line][0]))
 
 
 def _closing(region, census):
     """The joins of the census and its lots, as a pair."""
     joins = []
     division = singles(region.villages)
-    line = first_join(region, census, division)
+    # A line can join exactly while it leaks.
+    line = leak_of(region, census, division)
     while line is not None:
         joins.append(line)
-        division = join_blocks(division, touched_by(division, region.lines[line][0]))
-        line = first_join(region, census, division)
+        division = joined_by(region, division, line)
+        line = leak_of(region, census, division)
     return joins, division
 
 

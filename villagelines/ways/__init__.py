@@ -1,0 +1,1 @@
+"""Ways between placings, and the bars that stand against them."""

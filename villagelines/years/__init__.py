@@ -1,0 +1,1 @@
+"""Years: what is noted of families and lines."""
