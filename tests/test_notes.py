@@ -1,5 +1,7 @@
 """Points [55] and [56]: notes and their texts."""
 
+from itertools import chain, combinations, product
+
 from tests.checks import Checks
 from villagelines.errors import BadNote
 from villagelines.years import notes
@@ -46,6 +48,11 @@ WRONG = {
 
 def with_value(values, at, value):
     return (*values[:at], value, *values[at + 1:])
+
+
+def several_of(many):
+    """Two or more of so many places, in every way, each way ascending."""
+    return chain.from_iterable(combinations(range(many), some) for some in range(2, many + 1))
 
 
 class TestClasses(Checks):
@@ -125,6 +132,23 @@ class TestMaking(Checks):
                 wrong = [WRONG[later][0] for later in names[at:]]
                 with self.subTest(kind=kind, name=name):
                     self.assert_raises(BadNote, (name,), kind, *values[:at], *wrong)
+
+    def test_first_of_several_faults_is_told(self):
+        for kind, (names, values, *_) in [*KINDS.items(), *BETWEEN.items()]:
+            for places in several_of(len(names)):
+                for wrong in product(*[WRONG[names[at]][:3] for at in places]):
+                    given = values
+                    for at, value in zip(places, wrong):
+                        given = with_value(given, at, value)
+                    with self.subTest(kind=kind, given=given):
+                        self.assert_raises(BadNote, (names[places[0]],), kind, *given)
+
+    def test_counted_looks_at_heads_between_moment_and_village(self):
+        self.assert_raises(BadNote, ("moment",), Counted, -1, -1, 0)
+        self.assert_raises(BadNote, ("moment",), Counted, -1, 0, -1)
+        self.assert_raises(BadNote, ("heads",), Counted, 0, -1, -1)
+        self.assert_raises(BadNote, ("moment",), Counted, -1, -1, -1)
+        self.assert_raises(BadNote, ("village",), Counted, 0, 0, -1)
 
     def test_between(self):
         self.assert_raises(BadNote, ("moment",), Note, -1)

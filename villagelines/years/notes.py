@@ -11,12 +11,17 @@ def _are_stops(stops):
     return all([before < after for before, after in zip(stops, stops[1:])])
 
 
+def _require_moment(moment):
+    """None, or the error that tells that there is no such moment."""
+    if moment < 0:
+        raise BadNote("moment")
+
+
 class Note:
     """A note of a moment."""
 
     def __init__(self, moment):
-        if moment < 0:
-            raise BadNote("moment")
+        _require_moment(moment)
         self.moment = moment
 
     def words(self):
@@ -162,11 +167,12 @@ class Counted(VillageNote):
     VERB = "counted"
 
     def __init__(self, moment, heads, village):
-        Note.__init__(self, moment)
+        # The base looks at moment and village at once, but heads stand between the two.
+        _require_moment(moment)
         if heads < 0:
             raise BadNote("heads")
-        self.heads = heads
         VillageNote.__init__(self, moment, village)
+        self.heads = heads
 
     def words(self):
         """The words of the text."""
