@@ -1,17 +1,28 @@
-"""What the tests share: exact values, exact errors, untouched arguments, fresh results."""
+"""What the tests share: exact values, exact errors, untouched arguments, fresh results, short times."""
 
 import unittest
 from copy import deepcopy
+from time import process_time
+
+# Far more than anything needs here, and far less than going through all of something takes.
+SHORT = 10
+
+
+def lists_in(value):
+    """All lists in the value, however deep they stand."""
+    if not isinstance(value, (list, tuple)):
+        return []
+    found = [value] if isinstance(value, list) else []
+    for part in value:
+        found += lists_in(part)
+    return found
 
 
 def spoil(value):
     """Change every list in the value, however deep it stands."""
-    if isinstance(value, (list, tuple)):
-        for part in value:
-            spoil(part)
-    if isinstance(value, list):
-        value.append("spoiled")
-        value.reverse()
+    for part in lists_in(value):
+        part.append("spoiled")
+        part.reverse()
 
 
 class Checks(unittest.TestCase):
@@ -29,12 +40,21 @@ class Checks(unittest.TestCase):
         self.assert_is(list(vars(caught.exception).values()), list(fields))
 
     def assert_clean(self, call, *given):
-        """The call changes no argument, and spoiling its result changes nothing."""
+        """The call changes no argument, its lists are new ones, and spoiling them changes nothing."""
         before = deepcopy(given)
         result = call(*given)
         self.assertEqual(given, before)
         kept = deepcopy(result)
+        found = lists_in(result)
+        self.assertEqual(len({id(part) for part in found}), len(found))
         spoil(result)
         self.assertEqual(given, before)
         self.assert_is(call(*given), kept)
         self.assertEqual(given, before)
+
+    def assert_short(self, call, *given):
+        """What the call returns, found in a short time."""
+        began = process_time()
+        result = call(*given)
+        self.assertLess(process_time() - began, SHORT)
+        return result

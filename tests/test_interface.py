@@ -62,12 +62,49 @@ FUNCTIONS = {
     "lots.board": {
         "board_of": ["region", "heads", "placing"],
     },
+    "ways.gathering": {
+        "gathering": ["region", "heads", "placing", "village"],
+    },
+    "ways.papers": {
+        "paper_of": ["region", "heads", "start", "goal"],
+    },
+    "ways.ever": {
+        "can_live": ["region", "heads", "placing", "family"],
+        "company_of": ["region", "heads", "placing", "family"],
+        "heads_range": ["region", "heads", "placing", "village"],
+        "fate_of": ["region", "heads", "placing", "line"],
+        "holds": ["region", "heads", "placing", "question"],
+    },
+    "ways.wishes": {
+        "wish_for": ["region", "heads", "placing", "wanted"],
+    },
+    "ways.heights": {
+        "heights_of": ["region", "heads", "placing"],
+        "fewest_moves": ["region", "heads", "start", "goal"],
+        "shortest_way": ["region", "heads", "start", "goal"],
+    },
+    "least.stairs": {
+        "staircase": ["region", "census", "village"],
+    },
+    "least.newcomers": {
+        "newcomers_for": ["region", "census", "village", "one", "other"],
+    },
     "ways.judge": {
         "fault_of_paper": ["region", "heads", "start", "goal", "paper"],
     },
     "needs.notation": {
         "write_need": ["need", "words"],
         "read_need": ["text", "words"],
+    },
+    "needs.wide": {
+        "widened": ["region"],
+        "crowds_of": ["region", "families", "placing"],
+        "wide_lots": ["region", "crowds"],
+        "wide_leak": ["region", "crowds", "division"],
+    },
+    "needs.papers": {
+        "wide_paper": ["region", "families", "start", "goal"],
+        "fault_of_wide_paper": ["region", "families", "start", "goal", "paper"],
     },
     "years.notation": {
         "read_note": ["text"],
@@ -96,6 +133,9 @@ METHODS = {
         "__and__": ["self", "other"],
         "__or__": ["self", "other"],
         "__eq__": ["self", "other"],
+    },
+    ("needs.wide", "WideRegion"): {
+        "__init__": ["self", "villages", "kinds", "lines"],
     },
     ("years.notes", "Note"): {
         "__init__": ["self", "moment"],

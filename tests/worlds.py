@@ -33,3 +33,18 @@ def ways_from(region, heads, placing):
                 ways[tuple(after)] = [*ways[tuple(now)], move]
                 waiting.append(after)
     return ways
+
+
+def regions_of(villages, numbers, many):
+    """All regions with so many lines and these numbers, for two or three villages."""
+    stops = [(0, 1)] if villages == 2 else [(0, 1), (0, 2), (1, 2), (0, 1, 2)]
+    lines = list(product(stops, numbers))
+    return [Region(villages, list(chosen)) for chosen in product(lines, repeat=many)]
+
+
+# Every small region with at most two lines, with a few rows of heads each.
+SMALL_WORLDS = [
+    (region, heads)
+    for region in [Region.bare(2), *regions_of(2, (1, 2, 3), 1), *regions_of(3, (2, 3), 1), *regions_of(3, (2, 3), 2)]
+    for heads in ([1], [2, 1], [1, 1, 1])
+]

@@ -30,9 +30,14 @@ def touched_by(division, stops):
     return [at for at, block in enumerate(division) if any([stop in block for stop in stops])]
 
 
+def villages_at(division, places):
+    """The villages of the blocks at these places."""
+    return [village for place in places for village in division[place]]
+
+
 def join_blocks(division, places):
     """The division in which the blocks at these places are one block."""
-    joined = sorted([village for place in places for village in division[place]])
+    joined = sorted(villages_at(division, places))
     rest = [list(block) for at, block in enumerate(division) if at not in places]
     return sorted([joined, *rest])
 

@@ -1,19 +1,18 @@
 """Judging rows of joins."""
 
 from villagelines.lots.closing import joined_by
-from villagelines.lots.divisions import singles, touched_by
-from villagelines.lots.shut import heads_at, is_shut
+from villagelines.lots.divisions import singles, touched_by, villages_at
+from villagelines.lots.shut import is_shut
 
 
 def _fault_of_join(region, census, division, line):
     """Why the line cannot join blocks of the division, or None."""
     if not 0 <= line < len(region.lines):
         return "line"
-    stops, number = region.lines[line]
-    places = touched_by(division, stops)
+    places = touched_by(division, region.lines[line][0])
     if len(places) == 1:
         return "one"
-    if heads_at(census, division, places) < number:
+    if not region.is_enough(line, census, villages_at(division, places)):
         return "few"
     return None
 

@@ -1,26 +1,14 @@
 """Divisions that are shut: no line leaks from one block into another."""
 
-from villagelines.lots.divisions import divisions_of, touched_by
-from villagelines.region.census import heads_in
-
-
-def heads_at(census, division, places):
-    """The heads that live in the blocks at these places together."""
-    return sum([heads_in(census, division[place]) for place in places])
-
-
-def _leaks(line, census, division):
-    """True if the line touches several blocks that have enough heads for it."""
-    stops, number = line
-    places = touched_by(division, stops)
-    return len(places) > 1 and heads_at(census, division, places) >= number
+from villagelines.lots.divisions import divisions_of, touched_by, villages_at
 
 
 def leak_of(region, census, division):
     """The index of the first line that leaks, or None."""
-    for at, line in enumerate(region.lines):
-        if _leaks(line, census, division):
-            return at
+    for line, (stops, _) in enumerate(region.lines):
+        places = touched_by(division, stops)
+        if len(places) > 1 and region.is_enough(line, census, villages_at(division, places)):
+            return line
     return None
 
 

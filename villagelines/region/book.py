@@ -1,6 +1,7 @@
 """Regions: a number of villages and the lines between them."""
 
 from villagelines.errors import BadRegion
+from villagelines.region.census import census_of, heads_in
 
 
 def _is_ascending(stops):
@@ -8,27 +9,29 @@ def _is_ascending(stops):
     return all([before < after for before, after in zip(stops, stops[1:])])
 
 
-def _fault_of_line(villages, stops, number):
-    """What is wrong with a line among so many villages, or None."""
+def require_villages(villages):
+    """None, or the error that tells that there is no village."""
+    if villages < 1:
+        raise BadRegion(-1, "villages")
+
+
+def require_stops(villages, line, stops):
+    """None, or the error that tells what is wrong with the stops of this line."""
     if len(stops) < 2:
-        return "stops"
+        raise BadRegion(line, "stops")
     if not all([0 <= stop < villages for stop in stops]):
-        return "range"
+        raise BadRegion(line, "range")
     if not _is_ascending(stops):
-        return "order"
-    if number < 1:
-        return "number"
-    return None
+        raise BadRegion(line, "order")
 
 
 def _require_region(villages, lines):
     """None, or the error that tells the first fault of a region."""
-    if villages < 1:
-        raise BadRegion(-1, "villages")
-    for at, (stops, number) in enumerate(lines):
-        why = _fault_of_line(villages, stops, number)
-        if why is not None:
-            raise BadRegion(at, why)
+    require_villages(villages)
+    for line, (stops, number) in enumerate(lines):
+        require_stops(villages, line, stops)
+        if number < 1:
+            raise BadRegion(line, "number")
 
 
 class Region:
@@ -48,6 +51,14 @@ class Region:
     def greatest(self):
         """The greatest number of a line, 0 without lines."""
         return max([line[1] for line in self.lines], default=0)
+
+    def people_of(self, heads, placing):
+        """The census of the placing."""
+        return census_of(self, heads, placing)
+
+    def is_enough(self, line, census, villages):
+        """True if the people of these villages are enough for the line of this index."""
+        return heads_in(census, villages) >= self.lines[line][1]
 
     def with_line(self, stops, number):
         """The region with one more line behind the others."""

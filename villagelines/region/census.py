@@ -18,7 +18,7 @@ def heads_in(census, villages):
 
 def running_lines(region, census):
     """The indexes of the lines that run, ascending."""
-    return [at for at, (stops, number) in enumerate(region.lines) if heads_in(census, stops) >= number]
+    return [at for at, (stops, _) in enumerate(region.lines) if region.is_enough(at, census, stops)]
 
 
 def require_world(region, heads, placing):

@@ -1,7 +1,7 @@
 """Moves: one family moves along one line that runs."""
 
 from villagelines.errors import BadMove
-from villagelines.region.census import census_of, heads_in, running_lines
+from villagelines.region.census import running_lines
 
 
 def fault_of_move(region, heads, placing, move):
@@ -11,14 +11,14 @@ def fault_of_move(region, heads, placing, move):
         return "family"
     if not 0 <= line < len(region.lines):
         return "line"
-    stops, number = region.lines[line]
+    stops = region.lines[line][0]
     if placing[family] not in stops:
         return "home"
     if village not in stops:
         return "stop"
     if placing[family] == village:
         return "same"
-    if heads_in(census_of(region, heads, placing), stops) < number:
+    if not region.is_enough(line, region.people_of(heads, placing), stops):
         return "asleep"
     return None
 
@@ -48,7 +48,7 @@ def _stops_from(stops, home):
 
 def moves_from(region, heads, placing):
     """All moves that can be made in the placing, ascending."""
-    running = running_lines(region, census_of(region, heads, placing))
+    running = running_lines(region, region.people_of(heads, placing))
     for family, home in enumerate(placing):
         for line in running:
             for village in _stops_from(region.lines[line][0], home):

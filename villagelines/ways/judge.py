@@ -3,7 +3,6 @@
 from villagelines.errors import BadDivision, BadMove
 from villagelines.lots.divisions import place_of, tidy
 from villagelines.lots.shut import leak_of
-from villagelines.region.census import census_of
 from villagelines.region.walks import walk
 
 
@@ -38,7 +37,7 @@ def _fault_of_bar(region, heads, start, goal, bar):
     _, side, division, family = bar
     if not _is_division(region.villages, division):
         return (0, "division")
-    census = census_of(region, heads, start if side == "start" else goal)
+    census = region.people_of(heads, start if side == "start" else goal)
     line = leak_of(region, census, division)
     if line is not None:
         return (line, "open")
