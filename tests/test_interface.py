@@ -89,6 +89,38 @@ FUNCTIONS = {
     "least.newcomers": {
         "newcomers_for": ["region", "census", "village", "one", "other"],
     },
+    "least.pairs": {
+        "least_pairs": ["region", "census", "first", "second", "one", "other"],
+    },
+    "least.slack": {
+        "raised": ["region", "by"],
+        "slack_of": ["region", "census", "one", "other"],
+        "levels_of": ["region", "census"],
+    },
+    "least.discount": {
+        "discount_for": ["region", "heads", "start", "goal"],
+    },
+    "books.answers": {
+        "unanswered": ["region", "stops", "number"],
+        "answers": ["region", "stops", "number"],
+    },
+    "books.parting": {
+        "parting_of": ["one", "other"],
+        "alike": ["regions"],
+    },
+    "books.thinning": {
+        "needless": ["region"],
+        "thinned": ["region"],
+    },
+    "books.table": {
+        "least_number": ["region", "stops"],
+        "table_of": ["region"],
+        "book_of": ["villages", "rows"],
+    },
+    "books.stuck": {
+        "stuck_census": ["region", "count"],
+        "most_stuck": ["region"],
+    },
     "ways.judge": {
         "fault_of_paper": ["region", "heads", "start", "goal", "paper"],
     },
@@ -136,6 +168,9 @@ METHODS = {
     },
     ("needs.wide", "WideRegion"): {
         "__init__": ["self", "villages", "kinds", "lines"],
+    },
+    ("sides.side", "Side"): {
+        "__init__": ["self", "region", "census", "gates"],
     },
     ("years.notes", "Note"): {
         "__init__": ["self", "moment"],

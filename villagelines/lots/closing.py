@@ -36,3 +36,9 @@ def lot_of(region, census, village):
     """The lot that has the village."""
     lots = lots_of(region, census)
     return lots[place_of(lots, village)]
+
+
+def connected_by(region):
+    """The division into villages that the lines connect, whether they run or not."""
+    # With so many heads in each village every line joins.
+    return lots_of(region, [region.greatest] * region.villages)

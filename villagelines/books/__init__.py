@@ -1,0 +1,1 @@
+"""Books of lines: what a region does in all censuses."""

@@ -1,0 +1,1 @@
+"""Sides: regions that can be joined at gates."""
