@@ -7,10 +7,11 @@ from villagelines.errors import BadRegion
 def _partings(side, asking, answering):
     """For each line of the one region that the other does not answer: the side, the line, the census."""
     partings = []
-    for stops, number in asking.lines:
+    for line in asking.lines:
+        stops, number = line
         census = unanswered(answering, stops, number)
         if census is not None:
-            partings.append((side, (stops, number), census))
+            partings.append((side, line, census))
     return partings
 
 
