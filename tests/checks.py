@@ -25,6 +25,17 @@ def spoil(value):
         part.reverse()
 
 
+def plain(value):
+    """The value with each object of the program told by its kind and its attributes."""
+    if isinstance(value, (list, tuple)):
+        return type(value)([plain(part) for part in value])
+    if isinstance(value, dict):
+        return {key: plain(part) for key, part in value.items()}
+    if hasattr(value, "__dict__"):
+        return (type(value).__name__, plain(vars(value)))
+    return value
+
+
 class Checks(unittest.TestCase):
     """A test case that tells lists from tuples and True from 1."""
 
@@ -41,16 +52,16 @@ class Checks(unittest.TestCase):
 
     def assert_clean(self, call, *given):
         """The call changes no argument, its lists are new ones, and spoiling them changes nothing."""
-        before = deepcopy(given)
+        before = plain(deepcopy(given))
         result = call(*given)
-        self.assertEqual(given, before)
+        self.assert_is(plain(given), before)
         kept = deepcopy(result)
         found = lists_in(result)
         self.assertEqual(len({id(part) for part in found}), len(found))
         spoil(result)
-        self.assertEqual(given, before)
+        self.assert_is(plain(given), before)
         self.assert_is(call(*given), kept)
-        self.assertEqual(given, before)
+        self.assert_is(plain(given), before)
 
     def assert_short(self, call, *given):
         """What the call returns, found in a short time."""

@@ -121,6 +121,41 @@ FUNCTIONS = {
         "stuck_census": ["region", "count"],
         "most_stuck": ["region"],
     },
+    "sides.glue": {
+        "glued": ["left", "right"],
+    },
+    "sides.response": {
+        "nothing": ["count"],
+        "lots_under": ["side", "outside"],
+        "response": ["side", "outside"],
+    },
+    "sides.talk": {
+        "talk": ["left", "right"],
+        "glued_lots": ["left", "right"],
+    },
+    "sides.alike": {
+        "first_difference": ["one", "other"],
+        "parting_side": ["one", "other"],
+    },
+    "classes.members": {
+        "members": ["region", "heads", "placing"],
+        "class_size": ["region", "heads", "placing"],
+    },
+    "classes.ranking": {
+        "rank_of": ["region", "heads", "placing"],
+        "member_at": ["region", "heads", "placing", "index"],
+    },
+    "classes.listing": {
+        "classes_of": ["region", "heads"],
+        "frozen_count": ["region", "heads"],
+    },
+    "classes.fillings": {
+        "fillings": ["region", "heads", "villages", "families"],
+        "lot_fillings": ["region", "heads", "placing"],
+    },
+    "classes.spectrum": {
+        "spectrum": ["region", "heads", "placing", "village"],
+    },
     "ways.judge": {
         "fault_of_paper": ["region", "heads", "start", "goal", "paper"],
     },
@@ -143,7 +178,7 @@ FUNCTIONS = {
     },
 }
 
-GENERATORS = ["moves_from", "trail", "divisions_of", "shut_divisions"]
+GENERATORS = ["moves_from", "trail", "divisions_of", "shut_divisions", "members"]
 
 WORDS = {"words": ["self"]}
 

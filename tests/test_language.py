@@ -9,6 +9,8 @@ PACKAGE = Path(__file__).parent.parent / "villagelines"
 FILES = sorted(PACKAGE.rglob("*.py"))
 TREES = {path: ast.parse(path.read_text()) for path in FILES}
 FUNCTIONS = (ast.FunctionDef, ast.Lambda)
+# Running examples leaves `_` among the builtins.
+ALL_BUILTINS = set(dir(builtins)) - {"_"}
 BUILTINS = {"len", "range", "enumerate", "zip", "min", "max", "sum", "abs", "sorted", "reversed", "int", "str", "bool",
             "list", "tuple", "dict", "set", "isinstance", "ord", "repr", "any", "all", "divmod", "map", "super", "iter",
             "staticmethod", "classmethod", "property", "ValueError"}
@@ -81,14 +83,14 @@ class TestForm(unittest.TestCase):
     def test_names(self):
         for path, tree in TREES.items():
             own = imported_in(tree) | defined_in(tree)
-            self.assertEqual({name for name in own if name in UNUSED or hasattr(builtins, name)}, set(), path)
+            self.assertEqual({name for name in own if name in UNUSED | ALL_BUILTINS}, set(), path)
             for function in parts_of(tree, FUNCTIONS):
                 names = local_names(function)
-                wrong = {name for name in names if name in own or name in UNUSED or hasattr(builtins, name)}
+                wrong = {name for name in names if name in own or name in UNUSED | ALL_BUILTINS}
                 self.assertEqual(wrong, set(), (path, function.lineno))
 
     def test_builtins(self):
-        used = {node.id for _, node in found(ast.Name) if hasattr(builtins, node.id)}
+        used = {node.id for _, node in found(ast.Name) if node.id in ALL_BUILTINS}
         self.assertLessEqual(used, BUILTINS)
 
     def test_imports_name_the_file_that_defines_the_name(self):

@@ -42,6 +42,13 @@ def join_blocks(division, places):
     return sorted([joined, *rest])
 
 
+def join_along(division, groups):
+    """The division in which for each group of villages all blocks that it touches are one block."""
+    for group in groups:
+        division = join_blocks(division, touched_by(division, group))
+    return division
+
+
 def _numberings(villages):
     """For each division the block numbers of its villages, ascending."""
     rows = [[]]

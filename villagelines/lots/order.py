@@ -1,6 +1,6 @@
 """The order of divisions: finer ones, meets and merges."""
 
-from villagelines.lots.divisions import join_blocks, touched_by
+from villagelines.lots.divisions import join_along, touched_by
 
 
 def is_finer(one, other):
@@ -16,7 +16,4 @@ def meet_of(one, other):
 
 def merge_of(one, other):
     """The finest division that both are finer than."""
-    merged = one
-    for block in other:
-        merged = join_blocks(merged, touched_by(merged, block))
-    return merged
+    return join_along(one, other)

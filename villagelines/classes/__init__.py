@@ -1,0 +1,1 @@
+"""Classes: the placings that can come of one another."""
