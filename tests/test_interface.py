@@ -156,6 +156,35 @@ FUNCTIONS = {
     "classes.spectrum": {
         "spectrum": ["region", "heads", "placing", "village"],
     },
+    "sketch.worlds": {
+        "worlds_of": ["sketch"],
+    },
+    "sketch.verdict": {
+        "verdict": ["region", "sketch", "question"],
+    },
+    "sketch.share": {
+        "share_of": ["region", "sketch", "question"],
+    },
+    "sketch.asking": {
+        "asking": ["region", "sketch", "question"],
+    },
+    "years.diary": {
+        "merged": ["villages", "diaries"],
+        "started": ["villages", "families"],
+    },
+    "years.standing": {
+        "standing": ["diary", "count"],
+        "first_fault": ["diary"],
+    },
+    "years.history": {
+        "history_of": ["diary"],
+        "fault_of_history": ["diary", "history"],
+    },
+    "years.ask": {
+        "ask": ["diary", "question"],
+        "newcomers_now": ["diary", "village", "name", "other"],
+        "possible_placings": ["diary"],
+    },
     "ways.judge": {
         "fault_of_paper": ["region", "heads", "start", "goal", "paper"],
     },
@@ -178,7 +207,7 @@ FUNCTIONS = {
     },
 }
 
-GENERATORS = ["moves_from", "trail", "divisions_of", "shut_divisions", "members"]
+GENERATORS = ["moves_from", "trail", "divisions_of", "shut_divisions", "members", "worlds_of"]
 
 WORDS = {"words": ["self"]}
 
@@ -207,6 +236,24 @@ METHODS = {
     ("sides.side", "Side"): {
         "__init__": ["self", "region", "census", "gates"],
     },
+    ("sketch.sketch", "Sketch"): {
+        "__init__": ["self", "homes", "spans"],
+        "narrowed": ["self", "family", "homes", "least", "most"],
+    },
+    ("years.diary", "Diary"): {
+        "__init__": ["self", "villages"],
+        "__len__": ["self"],
+        "tell": ["self", "note"],
+        "drop": ["self", "index"],
+    },
+    ("desk.desk", "Desk"): {
+        "__init__": ["self", "villages", "limit"],
+        "__len__": ["self"],
+        "say": ["self", "row"],
+        "run": ["self", "text"],
+        "tried": ["self", "text"],
+        "set_limit": ["self", "value"],
+    },
     ("years.notes", "Note"): {
         "__init__": ["self", "moment"],
         "words": ["self"],
@@ -221,6 +268,13 @@ METHODS = {
     ("years.notes", "Ran"): WORDS,
     ("years.notes", "Stood"): WORDS,
     ("years.notes", "Counted"): WORDS,
+}
+
+PROPERTIES = {
+    ("region.book", "Region"): ["greatest"],
+    ("sketch.sketch", "Sketch"): ["many"],
+    ("years.diary", "Diary"): ["notes"],
+    ("desk.desk", "Desk"): ["fault", "limit", "texts"],
 }
 
 NOTES = {
@@ -266,14 +320,31 @@ class TestInterface(Checks):
                 with self.subTest(name=name, method=method):
                     self.assertEqual(arguments(vars(own)[method]), wanted)
 
-    def test_makers_and_property_are_of_their_kind(self):
+    def test_makers_are_of_their_kind(self):
         region = module("region.book").Region
         self.assertIsInstance(vars(region)["bare"], classmethod)
         self.assertEqual(arguments(region.bare), ["villages"])
-        self.assertIsInstance(vars(region)["greatest"], property)
         need = module("needs.need").Need
         self.assertIsInstance(vars(need)["of"], staticmethod)
         self.assertEqual(arguments(need.of), ["kinds", "kind", "number"])
+        diary = module("years.diary").Diary
+        self.assertIsInstance(vars(diary)["of"], classmethod)
+        self.assertEqual(arguments(diary.of), ["villages", "notes"])
+
+    def test_properties(self):
+        for (place, name), properties in PROPERTIES.items():
+            own = vars(vars(module(place))[name])
+            found = [word for word, value in own.items() if isinstance(value, property)]
+            self.assertEqual(sorted(found), properties)
+
+    def test_defaults(self):
+        standing, desk = module("years.standing").standing, module("desk.desk").Desk
+        self.assertIsNone(inspect.signature(standing).parameters["count"].default)
+        self.assertEqual(inspect.signature(desk).parameters["limit"].default, 10)
+        narrowed = inspect.signature(module("sketch.sketch").Sketch.narrowed).parameters
+        for name in ("homes", "least", "most"):
+            self.assertIs(narrowed[name].kind, inspect.Parameter.KEYWORD_ONLY)
+            self.assertIsNone(narrowed[name].default)
 
     def test_notes_are_defined_in_their_file_with_their_arguments(self):
         for name, wanted in NOTES.items():

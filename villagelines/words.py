@@ -51,6 +51,12 @@ def has_form(words, form):
     return len(parts) == len(words) and all([_fits(word, part) for word, part in zip(words, parts)])
 
 
+def form_of(words, forms):
+    """The form, of these forms, that the words have, or None."""
+    fitting = [form for form in forms if has_form(words, form)]
+    return fitting[0] if len(fitting) > 0 else None
+
+
 def values_of(words, form):
     """What the words tell at the capitals of the form that they have: names and whole numbers."""
     told = [word for word, part in zip(words, _parts_of(form, len(words))) if part.isupper()]

@@ -4,6 +4,7 @@ from villagelines.books.answers import answers
 from villagelines.lots.closing import connected_by
 from villagelines.lots.divisions import touched_by
 from villagelines.region.book import Region
+from villagelines.sets import sets_from
 
 
 def least_number(region, stops):
@@ -16,18 +17,9 @@ def least_number(region, stops):
     return number
 
 
-def _sets_of(villages, size):
-    """All sets of so many villages, as tuples, ascending."""
-    sets = [()]
-    for _ in range(size):
-        sets = [(*chosen, village) for chosen in sets for village in range(max(chosen, default=-1) + 1, villages)]
-    return sets
-
-
 def table_of(region):
     """The least number of each set of at least two villages, smaller sets first."""
-    sets = [stops for size in range(2, region.villages + 1) for stops in _sets_of(region.villages, size)]
-    return [(stops, least_number(region, stops)) for stops in sets]
+    return [(stops, least_number(region, stops)) for stops in sets_from(2, region.villages)]
 
 
 def book_of(villages, rows):

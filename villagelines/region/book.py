@@ -2,11 +2,7 @@
 
 from villagelines.errors import BadRegion
 from villagelines.region.census import census_of, heads_in
-
-
-def _is_ascending(stops):
-    """True if each stop is greater than the stop before it."""
-    return all([before < after for before, after in zip(stops, stops[1:])])
+from villagelines.sets import is_ascending
 
 
 def require_villages(villages):
@@ -21,7 +17,7 @@ def require_stops(villages, line, stops):
         raise BadRegion(line, "stops")
     if not all([0 <= stop < villages for stop in stops]):
         raise BadRegion(line, "range")
-    if not _is_ascending(stops):
+    if not is_ascending(stops):
         raise BadRegion(line, "order")
 
 

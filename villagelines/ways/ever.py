@@ -41,7 +41,7 @@ def fate_of(region, heads, placing, line):
 def holds(region, heads, placing, question):
     """True if what the question asks can ever be."""
     if question[0] == "meet":
-        return question[2] in company_of(region, heads, placing, question[1])
+        return placing[question[2]] in can_live(region, heads, placing, question[1])
     if question[0] == "live":
         return question[2] in can_live(region, heads, placing, question[1])
     return fate_of(region, heads, placing, question[1]) != "never"

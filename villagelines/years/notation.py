@@ -1,29 +1,19 @@
 """Reading the texts of notes."""
 
 from villagelines.errors import BadText
-from villagelines.words import has_form, values_of
+from villagelines.words import form_of, values_of
 from villagelines.years.notes import Closed, Come, Counted, Leave, Opened, Ran, Seen, Stood
 
-_FORMS = {
-    "come": "at MOMENT come NAME HEADS in VILLAGE",
-    "leave": "at MOMENT leave NAME from VILLAGE",
-    "seen": "at MOMENT seen NAME in VILLAGE",
-    "open": "at MOMENT open LINE NUMBER with STOP ..",
-    "close": "at MOMENT close LINE",
-    "ran": "at MOMENT ran LINE",
-    "stood": "at MOMENT stood LINE",
-    "counted": "at MOMENT counted HEADS in VILLAGE",
-}
-
-
-def _form_of(words):
-    """The form that the words have, or None."""
-    if len(words) < 3:
-        return None
-    form = _FORMS.get(words[2])
-    if form is None or not has_form(words, form):
-        return None
-    return form
+_FORMS = (
+    "at MOMENT come NAME HEADS in VILLAGE",
+    "at MOMENT leave NAME from VILLAGE",
+    "at MOMENT seen NAME in VILLAGE",
+    "at MOMENT open LINE NUMBER with STOP ..",
+    "at MOMENT close LINE",
+    "at MOMENT ran LINE",
+    "at MOMENT stood LINE",
+    "at MOMENT counted HEADS in VILLAGE",
+)
 
 
 def _opened(values):
@@ -55,7 +45,7 @@ def read_note(text):
     """The note that the text tells."""
     # A newline stays inside a word here, and no form has such a word.
     words = text.split(" ")
-    form = _form_of(words)
+    form = form_of(words, _FORMS)
     if form is None:
         raise BadText(0, "form")
     return _note_of(words[2], values_of(words, form))

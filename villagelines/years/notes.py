@@ -1,14 +1,13 @@
 """Notes: what is seen of families, villages and lines at a moment."""
 
 from villagelines.errors import BadNote
+from villagelines.sets import is_ascending
 from villagelines.words import is_name
 
 
 def _are_stops(stops):
     """True if these can be the stops of a line, in whatever region."""
-    if len(stops) < 2 or stops[0] < 0:
-        return False
-    return all([before < after for before, after in zip(stops, stops[1:])])
+    return len(stops) >= 2 and stops[0] >= 0 and is_ascending(stops)
 
 
 def _require_moment(moment):

@@ -1,0 +1,1 @@
+"""The desk: a diary that is kept and asked by rows of text."""

@@ -1,0 +1,1 @@
+"""Sketches: what is known of a world that is half known."""
