@@ -16,4 +16,5 @@ def verdict(region, sketch, question):
         return ("yes",)
     if len(yes) == 0:
         return ("no",)
-    return ("open", (most, list(yes[0])), (least, list(no[0])))
+    # One placing can stand in both worlds, and each has a list of its own.
+    return ("open", (most, yes[0]), (least, list(no[0])))
